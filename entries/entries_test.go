@@ -1,0 +1,98 @@
+package entries
+
+import (
+	"slices"
+	"testing"
+
+	"timetable/api"
+)
+
+// name is an entry of two fields, neither of which is empty.
+type name struct{ first, last string }
+
+func readName(x *name, i int, s string) api.Errno {
+	if s == "" {
+		return api.ErrEmpty
+	}
+	switch i {
+	case 0:
+		x.first = s
+	case 1:
+		x.last = s
+	}
+	return api.OK
+}
+
+func takeAll(name) api.Errno { return api.OK }
+
+// record returns a record whose fields are in the columns 10, 20 and so on.
+func record(line int, texts ...string) api.Record {
+	r := api.Record{Line: line}
+	for i, s := range texts {
+		r.Fields = append(r.Fields, api.Field{Text: s, Column: 10 * (i + 1)})
+	}
+	return r
+}
+
+func check(t *testing.T, l []name, problems []api.Problem, want []name, wantProblems []api.Problem) {
+	t.Helper()
+	if !slices.Equal(l, want) {
+		t.Errorf("entries %v, want %v", l, want)
+	}
+	if !slices.Equal(problems, wantProblems) {
+		t.Errorf("problems %v, want %v", problems, wantProblems)
+	}
+}
+
+func TestRead(t *testing.T) {
+	l, problems := Read([]api.Record{record(1, "a", "b"), record(2, "c", "d"), record(5, "a", "b")}, 2, readName, takeAll)
+	check(t, l, problems, []name{{"a", "b"}, {"c", "d"}, {"a", "b"}}, nil)
+	l, problems = Read(nil, 2, readName, takeAll)
+	check(t, l, problems, nil, nil)
+}
+
+func TestReadFields(t *testing.T) {
+	l, problems := Read([]api.Record{
+		record(1), record(2, "a"), record(3, "a", "b"), record(4, "a", "b", "c"), record(5, ""), record(6, "", "", ""),
+		record(7, "", "b"), record(8, "a", ""), record(9, "", ""), record(10, "c", "d"), {Line: -1}, {},
+	}, 2, readName, takeAll)
+	check(t, l, problems, []name{{"a", "b"}, {"c", "d"}}, []api.Problem{
+		{Line: 1, Code: api.ErrFields}, {Line: 2, Code: api.ErrFields}, {Line: 4, Code: api.ErrFields}, {Line: 5, Code: api.ErrFields}, {Line: 6, Code: api.ErrFields},
+		{Line: 7, Column: 10, Code: api.ErrEmpty}, {Line: 8, Column: 20, Code: api.ErrEmpty}, {Line: 9, Column: 10, Code: api.ErrEmpty},
+		{Line: -1, Code: api.ErrFields}, {Code: api.ErrFields},
+	})
+}
+
+// What accept is asked about, and what becomes of its answers.
+func TestReadAccept(t *testing.T) {
+	var asked []name
+	accept := func(x name) api.Errno {
+		asked = append(asked, x)
+		switch x.last {
+		case "dup":
+			return api.ErrDuplicate
+		case "size":
+			return api.ErrSize
+		}
+		return api.OK
+	}
+	l, problems := Read([]api.Record{record(1, "a", "dup"), record(2, "b", "ok"), record(3, "c"), record(4, "", "dup"), record(5, "d", ""), record(6, "e", "size"), record(7, "f", "ok")}, 2, readName, accept)
+	check(t, l, problems, []name{{"b", "ok"}, {"f", "ok"}}, []api.Problem{
+		{Line: 1, Code: api.ErrDuplicate}, {Line: 3, Code: api.ErrFields}, {Line: 4, Column: 10, Code: api.ErrEmpty}, {Line: 5, Column: 20, Code: api.ErrEmpty}, {Line: 6, Code: api.ErrSize},
+	})
+	if want := []name{{"a", "dup"}, {"b", "ok"}, {"e", "size"}, {"f", "ok"}}; !slices.Equal(asked, want) {
+		t.Errorf("asked about %v, want %v", asked, want)
+	}
+}
+
+// An entry begins empty, whatever was read before it.
+func TestReadFresh(t *testing.T) {
+	first := func(x *name, i int, s string) api.Errno {
+		if i == 0 && s != "" {
+			x.first = s
+		}
+		return api.OK
+	}
+	l, problems := Read([]api.Record{record(1, "a"), record(2, ""), record(3, "b")}, 1, first, takeAll)
+	check(t, l, problems, []name{{first: "a"}, {}, {first: "b"}}, nil)
+}
