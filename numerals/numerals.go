@@ -6,12 +6,23 @@ import (
 	"strings"
 )
 
-const dash = "-" // between the first and the last number of a span
+const (
+	dash = "-" // between the first and the last number of a span
+	zero = "0"
+)
 
 // Read reads a number with at most so many digits, the first of which is not 0.
 func Read(s string, digits int) (int, bool) {
-	// Signs and zeros in front, which strconv would take, come before '1'.
-	if s == "" || len(s) > digits || s[0] < '1' {
+	if strings.HasPrefix(s, zero) {
+		return 0, false
+	}
+	return ReadPadded(s, digits)
+}
+
+// ReadPadded reads a number with at most so many digits, among them zeros in front.
+func ReadPadded(s string, digits int) (int, bool) {
+	// Signs, which strconv would take, come before '0'.
+	if s == "" || len(s) > digits || s[0] < '0' {
 		return 0, false
 	}
 	number, err := strconv.Atoi(s)

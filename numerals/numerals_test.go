@@ -34,6 +34,36 @@ func TestRead(t *testing.T) {
 	}
 }
 
+func checkPadded(t *testing.T, s string, digits, want int, ok bool) {
+	t.Helper()
+	if n, k := ReadPadded(s, digits); n != want || k != ok {
+		t.Errorf("ReadPadded(%.40q, %d) = %d, %v", s, digits, n, k)
+	}
+}
+
+func TestReadPadded(t *testing.T) {
+	for digits := 1; digits <= 4; digits++ {
+		for n := range 20000 {
+			for zeros := range 5 {
+				s := strings.Repeat("0", zeros) + strconv.Itoa(n)
+				if len(s) <= digits {
+					checkPadded(t, s, digits, n, true)
+				} else {
+					checkPadded(t, s, digits, 0, false)
+				}
+			}
+		}
+	}
+	checkPadded(t, "0"+strconv.Itoa(math.MaxInt), 20, math.MaxInt, true)
+	checkPadded(t, "9223372036854775808", 19, 0, false)
+	checkPadded(t, strings.Repeat("0", 1000)+"7", 1001, 7, true)
+	checkPadded(t, strings.Repeat("9", 1000), math.MaxInt, 0, false)
+	for _, digits := range []int{0, -1, math.MinInt} {
+		checkPadded(t, "", digits, 0, false)
+		checkPadded(t, "0", digits, 0, false)
+	}
+}
+
 func TestReadForm(t *testing.T) {
 	for _, s := range []string{
 		"", " ", "-", "--", "0", "00", "01", "007", "+1", "-1", "1-", "1+", "1-2", "1_0", "_1", "1_", "0x1", "0b1", "1e1", "1.", ".1", "1.0", "1,0",
@@ -41,6 +71,9 @@ func TestReadForm(t *testing.T) {
 	} {
 		for digits := 1; digits <= 5; digits++ {
 			checkRead(t, s, digits, 0, false)
+			if s == "" || strings.Trim(s, "01234567") != "" {
+				checkPadded(t, s, digits, 0, false)
+			}
 		}
 		if from, to, ok := ReadSpan(s, 1); s != "1-2" && (from != 0 || to != 0 || ok) {
 			t.Errorf("ReadSpan(%q) = %d, %d, %v", s, from, to, ok)
