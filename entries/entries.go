@@ -1,7 +1,10 @@
-// Package entries reads lists of entries, one from each record, for the layers whose files are such lists.
+// Package entries reads and checks lists of entries, one from each record, for the layers whose files are such lists.
 package entries
 
-import "timetable/api"
+import (
+	"timetable/api"
+	"timetable/codes"
+)
 
 // Read returns the entries that n fields each describe, and the problems of the records that it leaves out. The function readField reads field i of an entry from a text; accept, which is called with each entry whose fields have no error, tells whether the entry as a whole can be taken.
 func Read[T any](l []api.Record, n int, readField func(entry *T, i int, s string) api.Errno, accept func(entry T) api.Errno) ([]T, []api.Problem) {
@@ -19,6 +22,47 @@ func Read[T any](l []api.Record, n int, readField func(entry *T, i int, s string
 		taken = append(taken, entry)
 	}
 	return taken, problems
+}
+
+// Check returns the first error of a list of at most so many entries. The function check returns the error of an entry alone; accept, which is called with each entry that has none, tells whether the entry can be taken together with those before.
+func Check[T any](l []T, most int, check, accept func(entry T) api.Errno) api.Errno {
+	if len(l) > most {
+		return api.ErrSize
+	}
+	for _, entry := range l {
+		if e := check(entry); e != api.OK {
+			return e
+		}
+		if e := accept(entry); e != api.OK {
+			return e
+		}
+	}
+	return api.OK
+}
+
+// Distinct returns a function that accepts so many entries at most, all of which have different keys.
+func Distinct[T any, K comparable](most int, keyOf func(entry T) K) func(entry T) api.Errno {
+	accepted := make(map[K]T)
+	return func(entry T) api.Errno {
+		key := keyOf(entry)
+		_, known := accepted[key]
+		switch {
+		case known:
+			return api.ErrDuplicate
+		case len(accepted) == most:
+			return api.ErrSize
+		}
+		accepted[key] = entry
+		return api.OK
+	}
+}
+
+// ReadCode reads a field that is a code.
+func ReadCode(s string) (string, api.Errno) {
+	if !codes.Valid(s) {
+		return "", api.ErrCode
+	}
+	return s, api.OK
 }
 
 // readEntry reads an entry from the fields of a record. With an error it returns the column of the field in question, 0 if it is none.

@@ -96,3 +96,91 @@ func TestReadFresh(t *testing.T) {
 	l, problems := Read([]api.Record{record(1, "a"), record(2, ""), record(3, "b")}, 1, first, takeAll)
 	check(t, l, problems, []name{{first: "a"}, {}, {first: "b"}}, nil)
 }
+
+// noLast is the error of a name alone.
+func noLast(x name) api.Errno {
+	if x.last == "" {
+		return api.ErrEmpty
+	}
+	return api.OK
+}
+
+func first(x name) string { return x.first }
+
+func TestCheck(t *testing.T) {
+	for i, x := range []struct {
+		l    []name
+		most int
+		want api.Errno
+	}{
+		{nil, 0, api.OK},
+		{nil, 2, api.OK},
+		{[]name{{"a", "b"}}, 0, api.ErrSize},
+		{[]name{{"a", "b"}, {"c", "d"}}, 2, api.OK},
+		{[]name{{"a", "b"}, {"c", "d"}}, 1, api.ErrSize},
+		{[]name{{"a", ""}, {"a", ""}, {"a", ""}}, 2, api.ErrSize},
+		{[]name{{"a", "b"}, {"c", ""}}, 2, api.ErrEmpty},
+		{[]name{{"a", "b"}, {"a", "d"}}, 2, api.ErrDuplicate},
+		{[]name{{"a", "b"}, {"a", ""}}, 2, api.ErrEmpty},
+		{[]name{{"a", ""}, {"a", "b"}}, 2, api.ErrEmpty},
+		{[]name{{"a", "b"}, {"a", "c"}, {"d", ""}}, 3, api.ErrDuplicate},
+		{[]name{{"a", "b"}, {"d", ""}, {"a", "c"}}, 3, api.ErrEmpty},
+	} {
+		if e := Check(x.l, x.most, noLast, Distinct(9, first)); e != x.want {
+			t.Errorf("%d: Check(%v) = %d, want %d", i, x.l, e, x.want)
+		}
+	}
+}
+
+// Entries with an error are not asked about, nor those behind them.
+func TestCheckAccept(t *testing.T) {
+	var asked []name
+	accept := func(x name) api.Errno {
+		asked = append(asked, x)
+		return api.OK
+	}
+	if e := Check([]name{{"a", "b"}, {"c", "d"}, {"e", ""}, {"f", "g"}}, 4, noLast, accept); e != api.ErrEmpty || !slices.Equal(asked, []name{{"a", "b"}, {"c", "d"}}) {
+		t.Errorf("Check: %d, asked about %v", e, asked)
+	}
+}
+
+func TestDistinct(t *testing.T) {
+	accept := Distinct(2, first)
+	for i, x := range []struct {
+		entry name
+		want  api.Errno
+	}{
+		{name{"a", "b"}, api.OK}, {name{"a", "c"}, api.ErrDuplicate}, {name{"", "b"}, api.OK}, {name{"A", "b"}, api.ErrSize},
+		{name{"a", "b"}, api.ErrDuplicate}, {name{"", ""}, api.ErrDuplicate}, {name{"A", "b"}, api.ErrSize},
+	} {
+		if e := accept(x.entry); e != x.want {
+			t.Errorf("%d: %v has the error %d, want %d", i, x.entry, e, x.want)
+		}
+	}
+	if e := Distinct(0, first)(name{}); e != api.ErrSize {
+		t.Errorf("none is accepted: %d", e)
+	}
+	whole := Distinct(9, func(x name) name { return x })
+	for i, x := range []name{{"a", "b"}, {"a", "c"}, {"b", "c"}, {"a", "c"}} {
+		want := api.OK
+		if i == 3 {
+			want = api.ErrDuplicate
+		}
+		if e := whole(x); e != want {
+			t.Errorf("%v as its own key has the error %d, want %d", x, e, want)
+		}
+	}
+}
+
+func TestReadCode(t *testing.T) {
+	for _, s := range []string{"a", "9", "A-", "a_1", "abcdefghijklmnop"} {
+		if code, e := ReadCode(s); code != s || e != api.OK {
+			t.Errorf("ReadCode(%q) = %q, %d", s, code, e)
+		}
+	}
+	for _, s := range []string{"", "?", "_a", "a b", " a", "a;b", "a\n", "\u00e9", "abcdefghijklmnopq"} {
+		if code, e := ReadCode(s); code != "" || e != api.ErrCode {
+			t.Errorf("ReadCode(%q) = %q, %d", s, code, e)
+		}
+	}
+}

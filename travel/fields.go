@@ -4,7 +4,7 @@ import (
 	"strconv"
 
 	"timetable/api"
-	"timetable/codes"
+	"timetable/entries"
 	"timetable/numerals"
 )
 
@@ -22,20 +22,13 @@ const maxDigits = 2 // of a number of slots
 func readField(w *way, i int, s string) (e api.Errno) {
 	switch i {
 	case fieldFrom:
-		w.from, e = readCode(s)
+		w.from, e = entries.ReadCode(s)
 	case fieldTo:
-		w.to, e = readCode(s)
+		w.to, e = entries.ReadCode(s)
 	case fieldSlots:
 		w.slots, e = readSlots(s)
 	}
 	return e
-}
-
-func readCode(s string) (string, api.Errno) {
-	if !codes.Valid(s) {
-		return "", api.ErrCode
-	}
-	return s, api.OK
 }
 
 func readSlots(s string) (int, api.Errno) {
