@@ -2,6 +2,8 @@
 package entries
 
 import (
+	"strings"
+
 	"timetable/api"
 	"timetable/codes"
 )
@@ -63,6 +65,23 @@ func ReadCode(s string) (string, api.Errno) {
 		return "", api.ErrCode
 	}
 	return s, api.OK
+}
+
+// ReadParts reads a field whose parts are separated, so many at most, with a function that reads each of them.
+func ReadParts[T any](s, separator string, most int, readPart func(part string) (T, api.Errno)) ([]T, api.Errno) {
+	var l []T
+	for part := range strings.SplitSeq(s, separator) {
+		x, e := readPart(part)
+		if e != api.OK {
+			return nil, e
+		}
+		l = append(l, x)
+	}
+	// Only now, because an error of any part comes first.
+	if len(l) > most {
+		return nil, api.ErrSize
+	}
+	return l, api.OK
 }
 
 // readEntry reads an entry from the fields of a record. With an error it returns the column of the field in question, 0 if it is none.

@@ -184,3 +184,61 @@ func TestReadCode(t *testing.T) {
 		}
 	}
 }
+
+// readLetter reads one letter.
+func readLetter(s string) (byte, api.Errno) {
+	switch {
+	case s == "":
+		return '!', api.ErrEmpty
+	case len(s) > 1:
+		return '!', api.ErrForm
+	}
+	return s[0], api.OK
+}
+
+func TestReadParts(t *testing.T) {
+	for _, x := range []struct {
+		s, separator string
+		most         int
+		want         string
+		e            api.Errno
+	}{
+		{"a", ";", 1, "a", api.OK},
+		{"a;b;a", ";", 3, "aba", api.OK},
+		{"a;b;a", ";", 4, "aba", api.OK},
+		{"a/b", "/", 2, "ab", api.OK},
+		{";/;", "/", 2, ";;", api.OK},
+		{"a--b", "--", 2, "ab", api.OK},
+		{"a;b;a", ";", 2, "", api.ErrSize},
+		{"a", ";", 0, "", api.ErrSize},
+		{"", ";", 9, "", api.ErrEmpty},
+		{"", ";", 0, "", api.ErrEmpty},
+		{"a;", ";", 9, "", api.ErrEmpty},
+		{";a", ";", 9, "", api.ErrEmpty},
+		{"a;;a", ";", 9, "", api.ErrEmpty},
+		{"a;b", "/", 9, "", api.ErrForm},
+		{"a;bb;", ";", 9, "", api.ErrForm},
+		{"a;;bb", ";", 9, "", api.ErrEmpty},
+		{"a;b;a;bb", ";", 2, "", api.ErrForm},
+		{"a;b;a;", ";", 3, "", api.ErrEmpty},
+	} {
+		if l, e := ReadParts(x.s, x.separator, x.most, readLetter); string(l) != x.want || e != x.e {
+			t.Errorf("ReadParts(%q, %q, %d) = %q, %d; want %q, %d", x.s, x.separator, x.most, l, e, x.want, x.e)
+		}
+	}
+}
+
+// Parts behind one with an error are not read.
+func TestReadPartsFirst(t *testing.T) {
+	var asked []string
+	readPart := func(s string) (int, api.Errno) {
+		asked = append(asked, s)
+		if s == "x" {
+			return 1, api.ErrCode
+		}
+		return 0, api.OK
+	}
+	if l, e := ReadParts("a;b;x;c;x", ";", 9, readPart); len(l) > 0 || e != api.ErrCode || !slices.Equal(asked, []string{"a", "b", "x"}) {
+		t.Errorf("ReadParts: %v, %d, asked about %v", l, e, asked)
+	}
+}

@@ -1,11 +1,10 @@
 package roomfile
 
 import (
-	"slices"
 	"strconv"
 
 	"timetable/api"
-	"timetable/codes"
+	"timetable/codelists"
 	"timetable/entries"
 	"timetable/numerals"
 	"timetable/timelists"
@@ -33,7 +32,7 @@ func readField(r *api.Room, i int, s string, g api.Grid, weeks int) (e api.Errno
 	case fieldSeats:
 		r.Seats, e = readSeats(s)
 	case fieldFeatures:
-		r.Features, e = readFeatures(s)
+		r.Features, e = codelists.Read(s)
 	case fieldClosed:
 		r.Closed, e = timelists.Read(s, g, weeks)
 	}
@@ -48,26 +47,13 @@ func readSeats(s string) (int, api.Errno) {
 	return n, api.OK
 }
 
-func readFeatures(s string) ([]string, api.Errno) {
-	l, e := codes.List(s)
-	switch {
-	case e != api.OK:
-		return nil, e
-	case len(l) > api.MaxFeatures:
-		return nil, api.ErrSize
-	}
-	slices.Sort(l)
-	return l, api.OK
-}
-
 // writeFields returns the fields of a valid room.
 func writeFields(r api.Room, g api.Grid, weeks int) []string {
-	features, _ := codes.Join(r.Features) // there is no error, since the room is valid
 	return []string{
 		fieldCode:     r.Code,
 		fieldBuilding: r.Building,
 		fieldSeats:    strconv.Itoa(r.Seats),
-		fieldFeatures: features,
+		fieldFeatures: codelists.Write(r.Features),
 		fieldClosed:   timelists.Write(r.Closed, g, weeks),
 	}
 }

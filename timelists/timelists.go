@@ -6,6 +6,7 @@ import (
 	"strings"
 
 	"timetable/api"
+	"timetable/entries"
 	"timetable/timegrid"
 )
 
@@ -21,19 +22,8 @@ func Read(s string, g api.Grid, weeks int) ([]api.Time, api.Errno) {
 	if s == "" {
 		return nil, api.OK
 	}
-	var l []api.Time
-	for part := range strings.SplitSeq(s, separator) {
-		t, e := timegrid.Parse(g, weeks, part)
-		if e != api.OK {
-			return nil, e
-		}
-		l = append(l, t)
-	}
-	// Only now, because an error of any time comes first.
-	if len(l) > api.MaxTimes {
-		return nil, api.ErrSize
-	}
-	return l, api.OK
+	readTime := func(part string) (api.Time, api.Errno) { return timegrid.Parse(g, weeks, part) }
+	return entries.ReadParts(s, separator, api.MaxTimes, readTime)
 }
 
 // Write returns the text of times that fit.

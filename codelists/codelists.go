@@ -1,0 +1,38 @@
+// Package codelists reads, writes and checks lists of codes in ascending order, for the layers whose entries have such lists.
+package codelists
+
+import (
+	"slices"
+
+	"timetable/api"
+	"timetable/codes"
+)
+
+// Read reads at most MaxFeatures codes in any order, and sorts them.
+func Read(s string) ([]string, api.Errno) {
+	l, e := codes.List(s)
+	switch {
+	case e != api.OK:
+		return nil, e
+	case len(l) > api.MaxFeatures:
+		return nil, api.ErrSize
+	}
+	slices.Sort(l)
+	return l, api.OK
+}
+
+// Write returns the text of at most MaxFeatures codes that ascend.
+func Write(l []string) string {
+	s, _ := codes.Join(l) // there is no error, since they are codes, different, and few
+	return s
+}
+
+// Ascend reports whether a list consists of codes in ascending order.
+func Ascend(l []string) bool {
+	for i, code := range l {
+		if !codes.Valid(code) || i > 0 && code <= l[i-1] {
+			return false
+		}
+	}
+	return true
+}
