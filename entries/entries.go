@@ -1,4 +1,4 @@
-// Package entries reads and checks lists of entries, one from each record, for the layers whose files are such lists.
+// Package entries reads, writes and checks lists of entries, one from each record, for the layers whose files are such lists.
 package entries
 
 import (
@@ -24,6 +24,18 @@ func Read[T any](l []api.Record, n int, readField func(entry *T, i int, s string
 		taken = append(taken, entry)
 	}
 	return taken, problems
+}
+
+// Write returns the fields of each entry, or the error of the list, if it has one.
+func Write[T any](l []T, e api.Errno, writeFields func(entry T) []string) ([][]string, api.Errno) {
+	if e != api.OK {
+		return nil, e
+	}
+	var fields [][]string
+	for _, entry := range l {
+		fields = append(fields, writeFields(entry))
+	}
+	return fields, api.OK
 }
 
 // Check returns the first error of a list of at most so many entries. The function check returns the error of an entry alone; accept, which is called with each entry that has none, tells whether the entry can be taken together with those before.

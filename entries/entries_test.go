@@ -97,6 +97,40 @@ func TestReadFresh(t *testing.T) {
 	check(t, l, problems, []name{{first: "a"}, {}, {first: "b"}}, nil)
 }
 
+func fieldsOfName(x name) []string { return []string{x.first, x.last} }
+
+func TestWrite(t *testing.T) {
+	for _, x := range []struct {
+		l    []name
+		e    api.Errno
+		want [][]string
+	}{
+		{nil, api.OK, nil},
+		{[]name{}, api.OK, nil},
+		{[]name{{"a", "b"}}, api.OK, [][]string{{"a", "b"}}},
+		{[]name{{"c", "d"}, {"", ""}, {"a", "b"}, {"c", "d"}}, api.OK, [][]string{{"c", "d"}, {"", ""}, {"a", "b"}, {"c", "d"}}},
+		{nil, api.ErrInvalid, nil},
+		{[]name{{"a", "b"}}, api.ErrSize, nil},
+	} {
+		if w, e := Write(x.l, x.e, fieldsOfName); e != x.e || !slices.EqualFunc(w, x.want, slices.Equal) {
+			t.Errorf("Write(%q, %d) = %q, %d; want %q", x.l, x.e, w, e, x.want)
+		}
+	}
+}
+
+// Of entries with an error no fields are asked for: they may have none.
+func TestWriteError(t *testing.T) {
+	asked := 0
+	count := func(name) []string {
+		asked++
+		return nil
+	}
+	Write([]name{{"a", "b"}, {"c", "d"}}, api.ErrCode, count)
+	if asked != 0 {
+		t.Errorf("asked for the fields of %d entries with an error", asked)
+	}
+}
+
 // noLast is the error of a name alone.
 func noLast(x name) api.Errno {
 	if x.last == "" {
