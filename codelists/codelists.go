@@ -1,4 +1,4 @@
-// Package codelists reads, writes and checks lists of codes in ascending order, for the layers whose entries have such lists.
+// Package codelists reads, writes and checks lists of few codes, most of them in ascending order, for the layers whose entries have such lists.
 package codelists
 
 import (
@@ -10,6 +10,13 @@ import (
 
 // Read reads at most MaxFeatures codes in any order, and sorts them.
 func Read(s string) ([]string, api.Errno) {
+	l, e := ReadFew(s)
+	slices.Sort(l)
+	return l, e
+}
+
+// ReadFew reads at most MaxFeatures codes, and leaves them in their order.
+func ReadFew(s string) ([]string, api.Errno) {
 	l, e := codes.List(s)
 	switch {
 	case e != api.OK:
@@ -17,11 +24,10 @@ func Read(s string) ([]string, api.Errno) {
 	case len(l) > api.MaxFeatures:
 		return nil, api.ErrSize
 	}
-	slices.Sort(l)
 	return l, api.OK
 }
 
-// Write returns the text of at most MaxFeatures codes that ascend.
+// Write returns the text of at most MaxFeatures codes, all different, in their order.
 func Write(l []string) string {
 	s, _ := codes.Join(l) // there is no error, since they are codes, different, and few
 	return s

@@ -43,6 +43,23 @@ func TestRead(t *testing.T) {
 	checkRead(t, "", nil, api.OK)
 }
 
+func checkReadFew(t *testing.T, s string, want []string, e api.Errno) {
+	t.Helper()
+	if l, err := ReadFew(s); !slices.Equal(l, want) || err != e {
+		t.Errorf("ReadFew(%.80q) = %q, %d; want %q, %d", s, l, err, want, e)
+	}
+}
+
+// ReadFew leaves the codes as codes.List reads them.
+func TestReadFew(t *testing.T) {
+	for _, s := range []string{"lab", "beamer;lab", "lab;beamer", "c;b;a;C;B;A;2;1", "a8..a11", "a9;a10", "z;a08..a10;b", "f1..f8", "a_;a-;aA;aa;a0"} {
+		want, e := codes.List(s)
+		checkReadFew(t, s, want, e)
+	}
+	checkReadFew(t, "z;a9..a10;b", []string{"z", "a9", "a10", "b"}, api.OK)
+	checkReadFew(t, "", nil, api.OK)
+}
+
 // The error of codes.List comes before that of the number.
 func TestReadErrors(t *testing.T) {
 	for _, s := range []string{";", "a;", ";a", "a;;b", "a..b..c", "?", "a;?", "a b", "..", "a..", "..a", "a1..a", "a2..a1", "a1..b2", "a;a", "a1..a3;a2", "f1..f64;f1", "f1..f65", "f1..f65;?", "f1..f64;?", "f1..f9;f1", "f1..f9;?", "f1..f9;"} {
@@ -51,6 +68,7 @@ func TestReadErrors(t *testing.T) {
 			t.Errorf("codes.List(%q) has no error", s)
 		}
 		checkRead(t, s, nil, e)
+		checkReadFew(t, s, nil, e)
 	}
 	for n := 1; n <= 64; n++ {
 		l := numbered(n)
@@ -59,10 +77,21 @@ func TestReadErrors(t *testing.T) {
 		if n <= 8 {
 			checkRead(t, s, l, api.OK)
 			checkRead(t, span, l, api.OK)
+			checkReadFew(t, s, l, api.OK)
+			checkReadFew(t, span, l, api.OK)
 		} else {
 			checkRead(t, s, nil, api.ErrSize)
 			checkRead(t, span, nil, api.ErrSize)
+			checkReadFew(t, s, nil, api.ErrSize)
+			checkReadFew(t, span, nil, api.ErrSize)
 		}
+	}
+}
+
+func checkWrite(t *testing.T, l []string, want string) {
+	t.Helper()
+	if s := Write(l); s != want {
+		t.Errorf("Write(%q) = %q, want %q", l, s, want)
 	}
 }
 
@@ -76,10 +105,15 @@ func TestWrite(t *testing.T) {
 		"f10..f17":       numbered(8),
 		"a-;a0;aA;a_;aa": {"a-", "a0", "aA", "a_", "aa"},
 	} {
-		if s := Write(l); s != want {
-			t.Errorf("Write(%q) = %q", l, s)
-		}
+		checkWrite(t, l, want)
 		checkRead(t, want, l, api.OK)
+	}
+	for want, l := range map[string][]string{
+		"lab;beamer":        {"lab", "beamer"},
+		"b;a8..a11;a7;B;a6": {"b", "a8", "a9", "a10", "a11", "a7", "B", "a6"},
+	} {
+		checkWrite(t, l, want)
+		checkReadFew(t, want, l, api.OK)
 	}
 }
 
@@ -115,4 +149,7 @@ func TestMemory(t *testing.T) {
 	a, _ := Read("b;a")
 	a[0] = "x"
 	checkRead(t, "b;a", []string{"a", "b"}, api.OK)
+	a, _ = ReadFew("b;a")
+	a[0] = "x"
+	checkReadFew(t, "b;a", []string{"b", "a"}, api.OK)
 }

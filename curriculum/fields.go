@@ -2,7 +2,7 @@ package curriculum
 
 import (
 	"timetable/api"
-	"timetable/codes"
+	"timetable/codelists"
 	"timetable/entries"
 )
 
@@ -25,20 +25,17 @@ func readField(c *api.Curriculum, i int, s string) (e api.Errno) {
 }
 
 func readCourses(s string) ([]string, api.Errno) {
-	l, e := codes.List(s)
+	l, e := codelists.ReadFew(s)
 	switch {
 	case e != api.OK:
 		return nil, e
 	case len(l) == 0:
 		return nil, api.ErrEmpty
-	case len(l) > api.MaxFeatures:
-		return nil, api.ErrSize
 	}
 	return l, api.OK
 }
 
 // writeFields returns the fields of a valid curriculum.
 func writeFields(c api.Curriculum) []string {
-	courses, _ := codes.Join(c.Courses) // there is no error, since the curriculum is valid
-	return []string{fieldCode: c.Code, fieldCourses: courses}
+	return []string{fieldCode: c.Code, fieldCourses: codelists.Write(c.Courses)}
 }
